@@ -1,0 +1,1 @@
+"""Loopcuts: loops of code cut with the fewest jumps."""
