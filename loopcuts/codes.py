@@ -1,7 +1,7 @@
 """Codes: places, a door among them, and jumps with prices between them."""
 
 from loopcuts.errors import BadCode, BadNumber
-from loopcuts.kinds import is_integer_within, is_word
+from loopcuts.kinds import is_ascending, is_integer_within, is_word
 
 MOST_PLACES = 7
 MOST_JUMPS = 12
@@ -18,13 +18,18 @@ def is_jump_number(code, value):
     return is_integer_within(value, 0, len(code) - 1)
 
 
+def is_place(places, value):
+    """Tell whether any value is one of the places."""
+    return isinstance(value, str) and value in places
+
+
 class Code:
     """Places, a door and jumps; a code never changes."""
 
     def __init__(self, places, door, jumps=()):
         if not _are_places(places):
             raise BadCode("places")
-        if not _is_place(places, door):
+        if not is_place(places, door):
             raise BadCode("door")
         if not isinstance(jumps, (list, tuple)) or len(jumps) > MOST_JUMPS:
             raise BadCode(None)
@@ -73,14 +78,7 @@ def _are_places(value):
     if not isinstance(value, tuple) or not 1 <= len(value) <= MOST_PLACES:
         return False
     # Only words are compared: other values may have no order.
-    if not all([is_word(place) for place in value]):
-        return False
-    return all([one < other for one, other in zip(value, value[1:])])
-
-
-def _is_place(places, value):
-    """Tell whether any value is one of the places."""
-    return isinstance(value, str) and value in places
+    return all([is_word(place) for place in value]) and is_ascending(value)
 
 
 def _is_jump(places, value):
@@ -88,7 +86,7 @@ def _is_jump(places, value):
     if not isinstance(value, tuple) or len(value) != 3:
         return False
     begin, end, price = value
-    return _is_place(places, begin) and _is_place(places, end) and is_price(price)
+    return is_place(places, begin) and is_place(places, end) and is_price(price)
 
 
 def _reached(door, jumps):

@@ -7,30 +7,21 @@ from loopcuts.errors import BadLoop
 from loopcuts.loops import is_loop, is_way, loops, places_of
 from tests.asks import Asks
 from tests.samples import every_kind, example, ring, single, whole
+from tests.slow import stops_of
 
 
 def is_number(code, value):
     return isinstance(value, int) and not isinstance(value, bool) and 0 <= value < len(code.jumps)
 
 
-def stops(code, begin, numbers):
-    """Return the places that are come to from a place on, or None if a jump begins elsewhere."""
-    told = [begin]
-    for number in numbers:
-        if code.jumps[number][0] != told[-1]:
-            return None
-        told.append(code.jumps[number][1])
-    return told
-
-
 def is_loop_by_words(code, numbers):
-    told = stops(code, code.jumps[numbers[0]][0], numbers)
+    told = stops_of(code, code.jumps[numbers[0]][0], numbers)
     return (told is not None and told[-1] == told[0] and sorted(set(told)) == sorted(told[1:])
             and all([numbers[0] <= number for number in numbers]))
 
 
 def is_way_by_words(code, one, other, numbers):
-    told = stops(code, one, numbers)
+    told = stops_of(code, one, numbers)
     return told is not None and told[-1] == other and sorted(set(told)) == sorted(told)
 
 
