@@ -23,11 +23,19 @@ def is_place(places, value):
     return isinstance(value, str) and value in places
 
 
+def are_places(value):
+    """Tell whether any value is an ascending tuple of 1 to 7 words."""
+    if not isinstance(value, tuple) or not 1 <= len(value) <= MOST_PLACES:
+        return False
+    # Only words are compared: other values may have no order.
+    return all([is_word(place) for place in value]) and is_ascending(value)
+
+
 class Code:
     """Places, a door and jumps; a code never changes."""
 
     def __init__(self, places, door, jumps=()):
-        if not _are_places(places):
+        if not are_places(places):
             raise BadCode("places")
         if not is_place(places, door):
             raise BadCode("door")
@@ -36,7 +44,7 @@ class Code:
         for number, jump in enumerate(jumps):
             if not _is_jump(places, jump):
                 raise BadCode(number)
-        if len(_reached(door, jumps)) < len(places):
+        if len(places_reached(door, jumps)) < len(places):
             raise BadCode("reach")
         self.places = places
         self.door = door
@@ -73,14 +81,6 @@ class Code:
         return Code(self.places, self.door, jumps)
 
 
-def _are_places(value):
-    """Tell whether any value is an ascending tuple of 1 to 7 words."""
-    if not isinstance(value, tuple) or not 1 <= len(value) <= MOST_PLACES:
-        return False
-    # Only words are compared: other values may have no order.
-    return all([is_word(place) for place in value]) and is_ascending(value)
-
-
 def _is_jump(places, value):
     """Tell whether any value is a jump between the places."""
     if not isinstance(value, tuple) or len(value) != 3:
@@ -89,7 +89,7 @@ def _is_jump(places, value):
     return is_place(places, begin) and is_place(places, end) and is_price(price)
 
 
-def _reached(door, jumps):
+def places_reached(door, jumps):
     """Return the list of the places that can be reached from the door, each once."""
     reached = [door]
     at = 0

@@ -32,10 +32,7 @@ def least_cut(code):
 
 def least_within(code, lot):
     """Return a cut with the least cost of all within the lot."""
-    check_lot(code, lot)
-    unmet = unmet_loop(code, lot)
-    if unmet is not None:
-        raise NoCut(unmet)
+    check_cut(code, lot)
     within = [cut for cut in narrow_cuts(code) if all([number in lot for number in cut])]
     return cheapest(within, prices_of(code))
 
@@ -73,6 +70,14 @@ def check_lot(code, value):
     """Refuse any value that is no lot of jumps."""
     if not is_lot(code, value):
         raise BadLot(value)
+
+
+def check_cut(code, value):
+    """Refuse any value that is no lot of jumps, then any that is no cut."""
+    check_lot(code, value)
+    unmet = unmet_loop(code, value)
+    if unmet is not None:
+        raise NoCut(unmet)
 
 
 def unmet_loop(code, lot):

@@ -1,7 +1,12 @@
 """The promises by their words: slow looks at all ways, all lots and all foldings."""
 
+import re
 from functools import lru_cache
-from itertools import combinations
+from itertools import combinations, product
+
+A_WORD = "[a-z]{1,8}"
+A_PLACES_LINE = "places( " + A_WORD + "){1,7}"
+A_JUMP_LINE = A_WORD + " " + A_WORD + " (0|[1-9]|1[0-9]|20)"
 
 
 def is_number(value):
@@ -186,3 +191,50 @@ def spots_by_words(code):
 
 def spots_cost_by_words(code, prices, lot):
     return sum([prices[code.places.index(place)] for place in lot])
+
+
+def is_run_by_words(code, thing):
+    """Tell whether any value is a run, by the places that are come to from the door on."""
+    if not isinstance(thing, tuple) or not all([is_number(part) and 0 <= part < len(code.jumps) for part in thing]):
+        return False
+    return stops_of(code, code.door, thing) is not None
+
+
+def runs_by_words(code, many):
+    """Return the ascending tuple of all runs of so many jumps, by a look at all rows of numbers."""
+    return tuple([row for row in product(range(len(code.jumps)), repeat=many) if is_run_by_words(code, row)])
+
+
+def longest_row(numbers, lot):
+    """Return the greatest number of numbers, one behind another, that are not in the lot."""
+    longest = row = 0
+    for number in numbers:
+        row = 0 if number in lot else row + 1
+        longest = max(longest, row)
+    return longest
+
+
+def longest_unmet_by_words(code, cut):
+    """Return the greatest length of a row of jumps that are not in the cut; runs come to each place."""
+    unmet = [number for number in range(len(code.jumps)) if number not in cut]
+    rows = [(number,) for number in unmet]
+    longest = 0
+    while rows:
+        longest += 1
+        rows = [row + (number,) for row in rows for number in unmet
+                if code.jumps[row[-1]][1] == code.jumps[number][0]]
+    return longest
+
+
+def wrong_line_by_words(text):
+    """Return the number of the first line of a text that code_text does not give behind those ahead, or None."""
+    lines = text.split("\n")
+    places = lines[0].split(" ")[1:]
+    if not re.fullmatch(A_PLACES_LINE, lines[0]) or places != sorted(set(places)):
+        return 1
+    if len(lines) == 1 or lines[1] not in ["door " + place for place in places]:
+        return 2
+    for at, line in enumerate(lines[2:], start=3):
+        if at == 15 or not re.fullmatch(A_JUMP_LINE, line) or not set(line.split(" ")[:2]) <= set(places):
+            return at
+    return None
