@@ -1,10 +1,10 @@
 """Cuts: lots of jumps that meet all loops, their costs, and packs that match them."""
 
-from loopcuts.covers import cheapest, meets, narrow_lots, price_of
+from loopcuts.covers import cheapest, meets, narrow_tallies, numbers_in, price_of
 from loopcuts.doors import doors_paper, one_door
 from loopcuts.errors import BadLot, BadPaper, NoCut, SeveralDoors
 from loopcuts.kinds import is_ascending
-from loopcuts.loops import are_jump_numbers, loops
+from loopcuts.loops import are_jump_numbers, loops, loops_by_parts
 from loopcuts.packs import are_loops_with_times, are_within, greatest_pack, size_of
 
 
@@ -90,7 +90,7 @@ def unmet_loop(code, lot):
 
 def narrow_cuts(code):
     """Return the ascending list of the cuts that are none without any one of their jumps."""
-    return narrow_lots(list(range(len(code))), loops(code))
+    return sorted([numbers_in(mask) for mask, _ in narrow_tallies(loops_by_parts(code))])
 
 
 def prices_of(code):

@@ -12,6 +12,29 @@ def loops(code):
     return tuple(found)
 
 
+def loops_by_parts(code):
+    """Return the list of all loops as tuples of parts, alike jumps, whatever their prices, being one part.
+
+    A part is the pair (mask, price) of all jumps from a place to another one:
+    the sum of their bits, 1 << number each, and the sum of their prices. A cut
+    that needs one of them needs all, for each can stand in a loop in place of
+    another one.
+    """
+    parts = _parts_by_place(code)
+    found = []
+    # Of the places of a loop the least one is the first one here.
+    for first in sorted({end for begin, end, _ in code.jumps if end <= begin}):
+        trails = [(first, (), ())]
+        while trails:
+            place, stops, trail = trails.pop()
+            for end, part in parts[place].items():
+                if end == first:
+                    found.append(trail + (part,))
+                elif end > first and end not in stops:
+                    trails.append((end, stops + (end,), trail + (part,)))
+    return found
+
+
 def is_loop(code, thing):
     """Tell whether any value is a loop of the code."""
     if not are_jump_numbers(code, thing) or len(thing) == 0:
@@ -50,6 +73,15 @@ def begins_of(code, numbers):
 def ends_of(code, numbers):
     """Return the list of the places at which the jumps end."""
     return [code.jumps[number][1] for number in numbers]
+
+
+def _parts_by_place(code):
+    """Return for each place a dict of the parts that begin there, by the places at which they end."""
+    parts = {place: {} for place in code.places}
+    for number, (begin, end, price) in enumerate(code.jumps):
+        mask, whole = parts[begin].get(end, (0, 0))
+        parts[begin][end] = (mask | 1 << number, whole + price)
+    return parts
 
 
 def _each_once(places):

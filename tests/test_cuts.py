@@ -4,7 +4,7 @@ from loopcuts.codes import Code
 from loopcuts.cuts import cost, is_cut, least_cost, least_cut, least_within
 from loopcuts.errors import BadLot, NoCut
 from tests.asks import Asks
-from tests.made import crossing, known_codes, large_codes, nesting, several_door_codes, sharing, small_codes
+from tests.made import known_codes, large_codes, nesting, several_door_codes, sharing, small_codes
 from tests.samples import Alike, every_kind, example, ring, single, whole
 from tests.slow import (cost_by_words, cuts_by_words, is_cut_by_words, is_number, least_cost_by_words, loops_by_words,
                         lots_by_words)

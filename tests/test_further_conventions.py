@@ -1,6 +1,5 @@
 """Promises 0 to 4 for doors, cuts, spots and choices, and their interface."""
 
-import copy
 import importlib
 import inspect
 
@@ -11,8 +10,8 @@ from loopcuts.doors import check_doors, door_of, doors_paper, one_door
 from loopcuts.errors import BadPaper, LoopError, NoCut, SeveralDoors
 from loopcuts.loops import is_loop, loops, places_of
 from loopcuts.spots import check_spots, least_spots, spots_cost, spots_paper
-from tests.asks import Asks
-from tests.made import crossing, few_kinds, known_codes, large_codes, nesting, several_door_codes, small_codes
+from tests.asks import Asks, asked
+from tests.made import crossing, known_codes, large_codes, nesting, several_door_codes
 from tests.samples import every_kind, example, nested, ring, single, whole
 
 INTERFACE = {
@@ -63,14 +62,6 @@ def calls_with(value):
             lambda: left_from(example(), value), lambda: steps_of(example(), value)]
 
 
-def asked(call):
-    """Ask for something, and return it, or False if it is refused."""
-    try:
-        return call()
-    except (LoopError, NoCut):
-        return False
-
-
 class NothingIsModified(Asks):
 
     def test_values_that_are_passed_stay_as_they_are(self):
@@ -82,26 +73,13 @@ class NothingIsModified(Asks):
                 self.assertEqual(value, make())
 
     def test_codes_that_are_passed_stay_as_they_are(self):
-        for code in known_codes() + several_door_codes():
-            before = copy.deepcopy((code.places, code.door, code.jumps))
-            answers(code)
-            self.assertEqual((code.places, code.door, code.jumps), before)
-            self.assertEqual(set(vars(code)), {"places", "door", "jumps"})
+        self.leave_codes(answers)
 
 
 class EqualCalls(Asks):
 
-    def test_whatever_was_asked_in_between(self):
-        codes = known_codes() + several_door_codes() + small_codes(20)
-        first = [answers(code) for code in codes]
-        for value in few_kinds():
-            for call in calls_with(value):
-                asked(call)
-        self.assertEqual([answers(code) for code in codes[::-1]], first[::-1])
-
-    def test_equal_codes(self):
-        for code in known_codes() + several_door_codes():
-            self.assertEqual(answers(Code(code.places, code.door, list(code.jumps))), answers(code))
+    def test_equal_codes_whatever_was_asked_in_between(self):
+        self.tell_equal(answers, calls_with)
 
 
 class WhatWasTold(Asks):

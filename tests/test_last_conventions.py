@@ -1,6 +1,5 @@
 """Promises 0 to 4 for second, runs, bench and texts, and over the whole program."""
 
-import copy
 import importlib
 import inspect
 import operator
@@ -11,13 +10,13 @@ from loopcuts.choices import all_least, steps_of
 from loopcuts.codes import Code
 from loopcuts.cuts import least_cost, least_cut
 from loopcuts.doors import doors_paper
-from loopcuts.errors import BadCode, LoopError, NoCut
+from loopcuts.errors import BadCode, NoCut
 from loopcuts.loops import loops
 from loopcuts.runs import is_run, longest_unmet, met, runs_of
 from loopcuts.second import least_cost_too, one_door_too
 from loopcuts.texts import code_text, loop_text, read_code
-from tests.asks import Asks
-from tests.made import crossing, few_kinds, known_codes, large_codes, several_door_codes, small_codes
+from tests.asks import Asks, asked
+from tests.made import crossing, known_codes, large_codes, several_door_codes
 from tests.samples import every_kind, example, nested, ring, single, whole
 from tests.test_conventions import BINARY
 
@@ -74,14 +73,6 @@ def calls_with(value):
             lambda: led() == value, lambda: led() != value]
 
 
-def asked(call):
-    """Ask for something, and return it, or False if it is refused."""
-    try:
-        return call()
-    except (LoopError, NoCut):
-        return False
-
-
 class NothingIsModified(Asks):
 
     def test_values_that_are_passed_stay_as_they_are(self):
@@ -94,11 +85,7 @@ class NothingIsModified(Asks):
                 self.assertEqual(value, make())
 
     def test_codes_that_are_passed_stay_as_they_are(self):
-        for code in known_codes() + several_door_codes():
-            before = copy.deepcopy((code.places, code.door, code.jumps))
-            answers(code)
-            self.assertEqual((code.places, code.door, code.jumps), before)
-            self.assertEqual(set(vars(code)), {"places", "door", "jumps"})
+        self.leave_codes(answers)
 
     def test_benches_that_are_asked_stay_as_they_are(self):
         bench = led()
@@ -120,17 +107,8 @@ class NothingIsModified(Asks):
 
 class EqualCalls(Asks):
 
-    def test_whatever_was_asked_in_between(self):
-        codes = known_codes() + several_door_codes() + small_codes(20)
-        first = [answers(code) for code in codes]
-        for value in few_kinds():
-            for call in calls_with(value):
-                asked(call)
-        self.assertEqual([answers(code) for code in codes[::-1]], first[::-1])
-
-    def test_equal_codes(self):
-        for code in known_codes() + several_door_codes():
-            self.assertEqual(answers(Code(code.places, code.door, list(code.jumps))), answers(code))
+    def test_equal_codes_whatever_was_asked_in_between(self):
+        self.tell_equal(answers, calls_with)
 
 
 class WhatWasTold(Asks):
